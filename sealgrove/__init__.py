@@ -1,0 +1,1 @@
+"""Sealgrove: signatures made of digests."""

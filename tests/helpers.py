@@ -1,0 +1,65 @@
+"""What all tests share."""
+
+import random
+import unittest
+
+
+def frozen(value):
+    """A copy of the value that can be compared and that nothing can change."""
+    if isinstance(value, (list, tuple)):
+        return type(value).__name__, tuple(frozen(item) for item in value)
+    if isinstance(value, dict):
+        return "dict", tuple((frozen(key), frozen(value[key])) for key in value)
+    return value
+
+
+def lists_in(value):
+    """All lists and dicts in the value, itself included."""
+    found = []
+    if isinstance(value, (list, dict)):
+        found.append(value)
+    if isinstance(value, (list, tuple)):
+        for item in value:
+            found.extend(lists_in(item))
+    if isinstance(value, dict):
+        for key in value:
+            found.extend(lists_in(value[key]))
+    return found
+
+
+def some_bytes(count, seed=0):
+    """A byte list that depends on the seed alone."""
+    source = random.Random(1000003 * seed + count)
+    return [source.randrange(256) for _ in range(count)]
+
+
+def changed(data, at, by=1):
+    """A copy of the byte list with another byte at one index."""
+    return data[:at] + [(data[at] + by) % 256] + data[at + 1:]
+
+
+class Case(unittest.TestCase):
+    def pure(self, function, *args, **named):
+        """What the call returns, after a look at point 2: it changes no argument,
+        and what it returns may be changed without effect on the arguments and on later calls."""
+        before = frozen((args, named))
+        first = function(*args, **named)
+        self.assertEqual(before, frozen((args, named)), "an argument was changed")
+        given = {id(item) for item in lists_in((args, named))}
+        returned = lists_in(first)
+        self.assertFalse([item for item in returned if id(item) in given], "a list is shared with an argument")
+        kept = frozen(first)
+        for item in returned:
+            item.clear()
+        self.assertEqual(before, frozen((args, named)), "a list is shared with an argument")
+        second = function(*args, **named)
+        self.assertEqual(kept, frozen(second), "a second call returns something else")
+        return second
+
+    def raises(self, error, function, *args, **named):
+        """The call raises exactly this error, and changes no argument."""
+        before = frozen((args, named))
+        with self.assertRaises(error) as caught:
+            function(*args, **named)
+        self.assertIs(type(caught.exception), error)
+        self.assertEqual(before, frozen((args, named)), "an argument was changed")
