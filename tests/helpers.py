@@ -3,6 +3,8 @@
 import random
 import unittest
 
+import reference
+
 
 def frozen(value):
     """A copy of the value that can be compared and that nothing can change."""
@@ -10,6 +12,8 @@ def frozen(value):
         return type(value).__name__, tuple(frozen(item) for item in value)
     if isinstance(value, dict):
         return "dict", tuple((frozen(key), frozen(value[key])) for key in value)
+    if type(value).__name__ in ("Suite", "OneTime", "TreeKind"):
+        return type(value).__name__, frozen(vars(value))
     return value
 
 
@@ -36,6 +40,22 @@ def some_bytes(count, seed=0):
 def changed(data, at, by=1):
     """A copy of the byte list with another byte at one index."""
     return data[:at] + [(data[at] + by) % 256] + data[at + 1:]
+
+
+def plain(level, index, left, right):
+    """A text function in which every argument counts."""
+    return [level, index % 256, 77] + left + right
+
+
+def never(*rest):
+    """A leaf function or text function that must not be called."""
+    raise AssertionError("a function was called before the errors were looked for")
+
+
+def leaves_of(name, height, seed=0):
+    """The values of the leaves of a tree."""
+    size = reference.size(name)
+    return [some_bytes(size, seed + k) for k in range(2 ** height)]
 
 
 class Case(unittest.TestCase):

@@ -64,3 +64,165 @@ def digits(name, width, data):
     first = coefficients(data, width)
     check = sum(top - d for d in first)
     return first + coefficients(num(check * 2 ** ls, 2), width)[:v]
+
+
+# Part 2: one-time keys.
+
+
+def step_list(identifier, q, chain, step, value):
+    return identifier + num(q, 4) + num(chain, 2) + [step] + value
+
+
+def once_walk(name, identifier, q, chain, start, stop, value):
+    for step in range(start, stop):
+        value = digest(name, step_list(identifier, q, chain, step, value))
+    return value
+
+
+def once_value(name, identifier, q, seed, chain, step):
+    secret = digest(name, identifier + num(q, 4) + num(chain, 2) + [255] + seed)
+    return once_walk(name, identifier, q, chain, 0, step, secret)
+
+
+def ends_list(identifier, q, ends):
+    return identifier + num(q, 4) + [128, 128] + sum(ends, [])
+
+
+def message_list(identifier, q, randomizer, message):
+    return identifier + num(q, 4) + [129, 129] + randomizer + message
+
+
+def once_ends(name, width, identifier, q, seed):
+    top, p = parameters(name, width)[0], parameters(name, width)[4]
+    return [once_value(name, identifier, q, seed, chain, top) for chain in range(p)]
+
+
+def once_key(name, width, identifier, q, seed):
+    return digest(name, ends_list(identifier, q, once_ends(name, width, identifier, q, seed)))
+
+
+def once_digits(name, width, identifier, q, randomizer, message):
+    return digits(name, width, digest(name, message_list(identifier, q, randomizer, message)))
+
+
+def once_sign(name, width, identifier, q, seed, message):
+    randomizer = digest(name, identifier + num(q, 4) + [255, 253, 255] + seed)
+    found = once_digits(name, width, identifier, q, randomizer, message)
+    return randomizer, [once_value(name, identifier, q, seed, chain, d) for chain, d in enumerate(found)]
+
+
+def once_reached(name, width, identifier, q, message, signature):
+    """The ends that are worked out from a signature."""
+    randomizer, values = signature
+    found = once_digits(name, width, identifier, q, randomizer, message)
+    top = 2 ** width - 1
+    return [once_walk(name, identifier, q, chain, found[chain], top, values[chain]) for chain in range(len(values))]
+
+
+def once_candidate(name, width, identifier, q, message, signature):
+    reached = once_reached(name, width, identifier, q, message, signature)
+    return digest(name, ends_list(identifier, q, reached))
+
+
+def row(data, items, loose=False):
+    return tuple(data), tuple(tuple(item) for item in items), loose
+
+
+def once_rows(name, width, identifier, q, message, signature):
+    randomizer, values = signature
+    reached = once_reached(name, width, identifier, q, message, signature)
+    found = once_digits(name, width, identifier, q, randomizer, message)
+    rows = [row(ends_list(identifier, q, reached), reached)]
+    for chain, value in enumerate(values):
+        for step in range(2 ** width - 2, found[chain] - 1, -1):
+            there = once_walk(name, identifier, q, chain, found[chain], step, value)
+            rows.append(row(step_list(identifier, q, chain, step, there), [there]))
+    return rows + [row(message_list(identifier, q, randomizer, message), [], True)]
+
+
+# Part 3: trees and batches.
+
+
+def tree_value(name, leaves, text, level, index):
+    """The value of a node, by the words of point 45."""
+    if level == 0:
+        return leaves[index]
+    left = tree_value(name, leaves, text, level - 1, 2 * index)
+    right = tree_value(name, leaves, text, level - 1, 2 * index + 1)
+    return digest(name, text(level, index, left, right))
+
+
+def height(leaves):
+    return len(leaves).bit_length() - 1
+
+
+def root(name, leaves, text):
+    return tree_value(name, leaves, text, height(leaves), 0)
+
+
+def path(name, leaves, text, q):
+    return [tree_value(name, leaves, text, z, q // 2 ** z ^ 1) for z in range(height(leaves))]
+
+
+def joint_places(h, places):
+    """The nodes that are not known, but have a known sibling, level by level."""
+    out = []
+    for z in range(h):
+        known = sorted({q // 2 ** z for q in places})
+        out.extend((z, i ^ 1) for i in known if i ^ 1 not in known)
+    return out
+
+
+def item_text(c, i, message):
+    return [0] + num(c, 4) + num(i, 4) + message
+
+
+def fork_text(z, i, left, right):
+    return [2] + num(z, 4) + num(i, 4) + left + right
+
+
+def batch_leaves(name, messages):
+    c = len(messages)
+    h = min(h for h in range(20) if 2 ** h >= c)
+    texts = [item_text(c, i, message) for i, message in enumerate(messages)]
+    texts += [[1] + num(c, 4) + num(i, 4) for i in range(c, 2 ** h)]
+    return [digest(name, text) for text in texts]
+
+
+def batch_head(name, messages):
+    return [3] + num(len(messages), 4) + root(name, batch_leaves(name, messages), fork_text)
+
+
+# Part 4: tree keys.
+
+
+def lms_list(name, width, h, identifier, seed, r):
+    """The leaf list or node list of a node."""
+    if r >= 2 ** h:
+        return identifier + num(r, 4) + [130, 130] + once_key(name, width, identifier, r - 2 ** h, seed)
+    left, right = (lms_value(name, width, h, identifier, seed, below) for below in (2 * r, 2 * r + 1))
+    return identifier + num(r, 4) + [131, 131] + left + right
+
+
+def lms_value(name, width, h, identifier, seed, r):
+    return digest(name, lms_list(name, width, h, identifier, seed, r))
+
+
+def lms_path(name, width, h, identifier, seed, q):
+    r, out = 2 ** h + q, []
+    while r > 1:
+        out.append(lms_value(name, width, h, identifier, seed, r ^ 1))
+        r //= 2
+    return out
+
+
+def lms_candidate(name, width, h, identifier, message, signature):
+    q, once, values = signature
+    r = 2 ** h + q
+    key = once_candidate(name, width, identifier, q, message, once)
+    value = digest(name, identifier + num(r, 4) + [130, 130] + key)
+    for other in values:
+        both = value + other if r % 2 == 0 else other + value
+        r //= 2
+        value = digest(name, identifier + num(r, 4) + [131, 131] + both)
+    return value

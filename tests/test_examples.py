@@ -21,6 +21,42 @@ EXAMPLES = """
 >>> from sealgrove.suites import suite_named
 >>> OneTime(suite_named("small-1"), 4).digits([53])
 [3, 5, 1, 6]
+
+>>> from sealgrove.suites import suite_named
+>>> from sealgrove.tree import tree_levels
+>>> tree_levels(suite_named("small-2"), [[7, 8]], lambda level, index, left, right: left + right)
+[[[7, 8]]]
+
+>>> from sealgrove.suites import suite_named
+>>> from sealgrove.tree import climb
+>>> climb(suite_named("small-2"), lambda level, index, left, right: left + right, 0, [7, 8], [])
+[7, 8]
+
+>>> from sealgrove.joint import joint_places
+>>> joint_places(3, [0, 3, 4])
+[(0, 1), (0, 2), (0, 5), (1, 3)]
+
+>>> from sealgrove.joint import joint_places
+>>> joint_places(2, [0, 1, 2, 3])
+[]
+
+>>> from sealgrove.batch import item_text
+>>> item_text(2, 1, [9])
+[0, 0, 0, 0, 2, 0, 0, 0, 1, 9]
+
+>>> from sealgrove.batch import batch_height
+>>> [batch_height(count) for count in (1, 2, 3, 4, 5)]
+[0, 1, 2, 2, 3]
+
+>>> from sealgrove.suites import suite_named
+>>> from sealgrove.batchforms import batch_of
+>>> batch_of(suite_named("small-2"), [0, 0, 0, 1, 0, 0, 0, 0, 5])
+((1, 0, []), [5])
+
+>>> from sealgrove.suites import suite_named
+>>> from sealgrove.batchforms import batch_bytes
+>>> batch_bytes(suite_named("small-1"), (2, 1, [[77]]), [5])
+[0, 0, 0, 2, 0, 0, 0, 1, 77, 5]
 """
 
 README = os.path.join(os.path.dirname(os.path.dirname(os.path.abspath(__file__))), "README.md")

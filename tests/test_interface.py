@@ -10,6 +10,51 @@ FUNCTIONS = {
     "small": ["small_core(data)"],
     "suites": ["suite_named(name)"],
     "coefficients": ["coefficient(data, index, width)", "one_time_of(code)", "lower(one, other)"],
+    "chains": [
+        "step_list(identifier, q, chain, step, value)", "secret_list(identifier, q, chain, seed)",
+        "ends_list(identifier, q, ends)", "message_list(identifier, q, randomizer, message)",
+        "randomizer_list(identifier, q, seed)", "walk(suite, identifier, q, chain, start, stop, value)",
+    ],
+    "onetime": [
+        "chain_value(kind, identifier, q, seed, chain, step)", "ends(kind, identifier, q, seed)",
+        "one_time_key(kind, identifier, q, seed)", "sign_once(kind, identifier, q, seed, message)",
+        "message_digits(kind, identifier, q, randomizer, message)",
+        "candidate(kind, identifier, q, message, signature)",
+        "accepts_once(kind, identifier, q, key, message, signature)", "write_once(kind, signature)",
+        "read_once(kind, data)", "write_once_key(kind, identifier, q, key)", "read_once_key(data)",
+        "verify_once(form, message, data)", "lmots_rows(form, message, data)",
+    ],
+    "tree": [
+        "tree_levels(suite, leaves, text)", "root_of(suite, leaves, text)", "path_of(suite, leaves, text, place)",
+        "node_of(suite, leaf, text, level, index)", "climb(suite, text, place, value, path)",
+        "climb_rows(suite, text, place, value, path)", "parting(suite, rows, others)",
+        "grown(suite, height, leaf, text, place)",
+    ],
+    "joint": [
+        "joint_places(height, places)", "joint_path(suite, leaves, text, places)",
+        "joint_climb(suite, text, height, items, path)", "joint_climb_rows(suite, text, height, items, path)",
+    ],
+    "batch": [
+        "batch_height(count)", "item_text(count, index, message)", "blank_text(count, index)",
+        "fork_text(level, index, left, right)", "head_text(count, root)", "batch_leaves(suite, messages)",
+        "batch_head(suite, messages)", "batch_opening(suite, messages, index)",
+        "opened_head(suite, message, opening)", "batch_rows(suite, message, opening)",
+        "joint_opening(suite, messages, places)", "joint_head(suite, messages, opening)",
+        "joint_rows(suite, messages, opening)",
+    ],
+    "batchforms": [
+        "batch_bytes(suite, opening, signature)", "batch_of(suite, data)", "joint_bytes(suite, opening, signature)",
+        "joint_of(suite, data)",
+    ],
+    "lms": [
+        "tree_kind_of(code, once_code)", "leaf_list(identifier, number, key)",
+        "node_list(identifier, number, left, right)", "leaf_value(kind, identifier, seed, q)",
+        "join_nodes(kind, identifier, number, left, right)", "node_value(kind, identifier, seed, number)",
+        "tree_root(kind, identifier, seed)", "tree_path(kind, identifier, seed, q)",
+        "sign_tree(kind, identifier, seed, q, message, *, path=None)", "node_text(kind, identifier)",
+        "tree_candidate(kind, identifier, message, signature)",
+        "accepts_tree(kind, identifier, root, message, signature)", "child(kind, identifier, seed, q)",
+    ],
 }
 
 CLASSES = {
@@ -24,6 +69,7 @@ CLASSES = {
     "coefficients": {
         "OneTime": ["__init__(self, suite, width)", "check_sum(self, digest)", "digits(self, digest)"],
     },
+    "lms": {"TreeKind": ["__init__(self, one_time, height)"]},
 }
 
 
