@@ -49,19 +49,24 @@ def batch_head(suite, messages):
     return head_text(len(messages), root_of(suite, batch_leaves(suite, messages), fork_text))
 
 
+def need_indexes(count, indexes):
+    """Refuse a number of messages that no batch has, and then indexes of no messages of the batch."""
+    need_within(count, 1, MOST_MESSAGES, "the number of messages")
+    for index in indexes:
+        need_within(index, 0, count - 1, "the index of a message")
+
+
 def batch_opening(suite, messages, index):
     """Return the opening of one message of the batch."""
     count = len(messages)
-    need_within(count, 1, MOST_MESSAGES, "the number of messages")
-    need_within(index, 0, count - 1, "the index")
+    need_indexes(count, [index])
     return count, index, path_of(suite, batch_leaves(suite, messages), fork_text, index)
 
 
 def need_opening(suite, opening):
     """Refuse an opening that is none."""
     count, index, path = opening
-    need_within(count, 1, MOST_MESSAGES, "the number of messages")
-    need_within(index, 0, count - 1, "the index")
+    need_indexes(count, [index])
     if len(path) != batch_height(count):
         raise Malformed("the path has another length than those of the batch")
     need_values(suite, path)
@@ -92,10 +97,8 @@ def joint_opening(suite, messages, places):
 
 def need_joint_places(count, places):
     """Refuse places that are not different, ascending indexes of messages; return the nodes of their joint path."""
-    height = batch_height(count)
-    for place in places:
-        need_within(place, 0, count - 1, "a place")
-    return joint_places(height, places)
+    need_indexes(count, places)
+    return joint_places(batch_height(count), places)
 
 
 def need_joint_opening(suite, opening):

@@ -21,7 +21,7 @@ def joint_places(height, places):
     """Return the levels and indexes of the nodes whose values make the joint path."""
     need_places(height, places)
     found = []
-    known = list(places)
+    known = places
     for level in range(height):
         known_here = {index: True for index in known}
         found.extend([(level, index ^ 1) for index in known if index ^ 1 not in known_here])

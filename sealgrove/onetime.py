@@ -113,8 +113,8 @@ def write_once_key(kind, identifier, q, key):
 
 def read_once_key(data):
     """Return the kind, the identifier, the number q and the key whose form the list is."""
-    if not is_bytes(data) or len(data) < 24:
-        raise Malformed("the list is too short for the form of a key")
+    if not is_bytes(data):
+        raise Malformed("the form of a key is a byte list")
     kind = one_time_of(number_of(data[:4]))
     if len(data) != 24 + kind.suite.size:
         raise Malformed("the form of the key has a wrong length")

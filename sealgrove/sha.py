@@ -81,4 +81,4 @@ def sha256(data):
     words = start_words()
     for at in range(0, len(blocks), 64):
         words = compress(words, blocks[at:at + 64])
-    return [byte for word in words for byte in big(word, 4)]
+    return [word >> shift & 255 for word in words for shift in (24, 16, 8, 0)]

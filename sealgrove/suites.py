@@ -33,7 +33,7 @@ class Suite:
 
     def mac(self, key, data):
         """Return the keyed digest of the data, 32 bytes."""
-        block = self.whole(key) if len(key) > BLOCK else list(key)
+        block = self.whole(key) if len(key) > BLOCK else key
         block = block + [0] * (BLOCK - len(block))
         inner = self.whole([byte ^ 54 for byte in block] + data)
         return self.whole([byte ^ 92 for byte in block] + inner)

@@ -91,7 +91,7 @@ def grown(suite, height, leaf, text, place):
         most = max(most, len(stack) + 1)
         for level, index, value in put_leaf(suite, text, stack, q, leaf(q)):
             if level < height and index == (place >> level) ^ 1:
-                path[level] = list(value)
+                path[level] = value
     return stack[0][2], path, most
 
 

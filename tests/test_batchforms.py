@@ -56,6 +56,12 @@ class Single(Case):
             self.raises(Malformed, batch_of, suite, u32(count) + u32(index) + [0] * 200)
         for wrong in ([], [0] * 7, [0] * 8, [0] * 100, [255] * 100, whole[:-1] + [256], whole[:-1] + [True]):
             self.raises(Malformed, batch_of, suite, wrong)
+        shortest = u32(1) + u32(0)
+        for cut in range(8):
+            self.raises(Malformed, batch_of, suite, shortest[:cut])
+        for at in range(8):
+            # Each byte of the two numbers counts.
+            self.raises(Malformed, batch_of, suite, shortest[:at] + [1 + shortest[at]] + shortest[at + 1:])
 
     def test_each_list_that_is_read_is_written_again(self):
         suite = suite_named("small-1")
@@ -125,6 +131,11 @@ class Joint(Case):
             self.raises(Malformed, joint_of, suite, parts)
         for wrong in ([], [0] * 7, [0] * 8, [0] * 100, [255] * 100, whole[:-1] + [256], whole[:-1] + [True]):
             self.raises(Malformed, joint_of, suite, wrong)
+        shortest = u32(1) + u32(1) + u32(0)
+        for cut in range(12):
+            self.raises(Malformed, joint_of, suite, shortest[:cut])
+        for at in range(12):
+            self.raises(Malformed, joint_of, suite, shortest[:at] + [1 + shortest[at]] + shortest[at + 1:])
 
     def test_each_list_that_is_read_is_written_again(self):
         suite = suite_named("small-1")

@@ -56,6 +56,21 @@ class Levels(Case):
             self.raises(OutOfRange, path_of, suite, leaves, never, 0)
             self.raises(OutOfRange, tree_levels, suite, [[1]] * count, never)
 
+    def test_the_greatest_number_of_leaves(self):
+        class Many(list):
+            """A list that says to be longer than it is: so many values have no room here."""
+
+            def __len__(self):
+                return self.count
+
+        suite = suite_named("small-2")
+        for count, error in ((2 ** 25, Malformed), (2 ** 25 + 1, OutOfRange), (2 ** 26, OutOfRange)):
+            leaves = Many([[1]])
+            leaves.count = count
+            for function in (tree_levels, root_of):
+                with self.assertRaises(error):
+                    function(suite, leaves, never)
+
     def test_values_of_a_wrong_length(self):
         suite = suite_named("small-2")
         for value in ([], [1], [1, 2, 3], [1, 256], [1, -1], [True, 1], (1, 2), None):
@@ -195,6 +210,16 @@ class Partings(Case):
             found = self.pure(parting, suite, self.rows(*rows), self.rows(*others))
             self.assertEqual(found, known)
         self.assertIs(type(parting(suite, self.rows(one), self.rows(other))), tuple)
+
+    def test_partings_of_published_digests(self):
+        suite = suite_named("sha-1")
+        first = {}
+        for k in range(256):
+            one = first.setdefault(reference.digest("sha-1", [k])[0], k)
+            if one != k:
+                break
+        self.assertEqual(parting(suite, self.rows([one]), self.rows([k])), ((one,), (k,)))
+        self.assertIsNone(parting(suite_named("sha-32"), self.rows([one]), self.rows([k])))
 
     def test_only_the_lists_are_compared(self):
         suite = suite_named("small-2")
