@@ -33,5 +33,6 @@ class BadLine(SealError):
     """A line of a scenario is not valid; the field line tells its number."""
 
     def __init__(self, line):
-        SealError.__init__(self, f"line {line} is not valid")
+        # The number is not in the text: Python refuses to write a number of more than 4300 digits.
+        SealError.__init__(self, "a line is not valid")
         self.line = line

@@ -18,7 +18,8 @@ def is_bytes(value):
 def big(number, size):
     """Return the number in size bytes, the highest one first."""
     if number < 0 or number >> (8 * size) != 0:
-        raise OutOfRange(f"{number} does not fit in {size} bytes")
+        # The number is not in the text: Python refuses to write a number of more than 4300 digits.
+        raise OutOfRange(f"the number does not fit in {size} bytes")
     return [number >> (8 * place) & 255 for place in reversed(range(size))]
 
 

@@ -18,7 +18,7 @@ class Errors(Case):
             self.assertEqual(str(caught.exception), "why")
 
     def test_a_bad_line_keeps_its_number(self):
-        for line in (1, 2, 4000):
+        for line in (1, 2, 4000, 10 ** 5000):
             with self.assertRaises(errors.SealError) as caught:
                 raise errors.BadLine(line)
             self.assertEqual(caught.exception.line, line)

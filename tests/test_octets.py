@@ -26,6 +26,15 @@ class Numbers(Case):
         self.raises(OutOfRange, big, -10 ** 400, 64)
         self.raises(OutOfRange, big, 10 ** 400, 0)
 
+    def test_numbers_that_python_does_not_write(self):
+        for number in (10 ** 4299, 10 ** 4300, 10 ** 5000, 1 << 100000):
+            for size in (0, 1, 8, 64):
+                self.raises(OutOfRange, big, number, size)
+                self.raises(OutOfRange, big, -number, size)
+            for function in (u8, u16, u32):
+                self.raises(OutOfRange, function, number)
+                self.raises(OutOfRange, function, -number)
+
     def test_one_two_and_four_bytes(self):
         for function, size in ((u8, 1), (u16, 2), (u32, 4)):
             with self.subTest(size=size):

@@ -1,0 +1,62 @@
+"""Point 2: an integer has no greatest value. Python does not write a number of more than 4300 digits in a text,
+so that no text of an error may be made of a number that has no bound."""
+
+from helpers import Case, never
+from sealgrove import batch, chains, coefficients, errors, joint, lms, octets, onetime, suites, tree
+from sealgrove.errors import Malformed, OutOfRange
+
+GREAT = 10 ** 5000
+I = [7] * 16
+SUITE = suites.suite_named("small-1")
+ONCE = coefficients.OneTime(SUITE, 8)
+KIND = lms.TreeKind(ONCE, 1)
+VALUES = [[1]] * ONCE.p
+
+
+def calls(n):
+    """Each one of them is to raise OutOfRange, since it is passed a number that is none."""
+    return [
+        (octets.big, n, 64), (octets.u8, n), (octets.u16, n), (octets.u32, n),
+        (suites.Suite, n, 1), (suites.Suite, 1, n),
+        (coefficients.coefficient, [1], n, 8), (coefficients.coefficient, [1], 0, n), (coefficients.OneTime, SUITE, n),
+        (chains.step_list, I, n, 0, 0, [1]), (chains.step_list, I, 0, n, 0, [1]), (chains.step_list, I, 0, 0, n, [1]),
+        (chains.secret_list, I, 0, n, [1]), (chains.randomizer_list, I, n, [1]), (chains.ends_list, I, n, [[1]]),
+        (chains.message_list, I, n, [1], []), (chains.walk, SUITE, I, 0, 0, 0, n, [1]),
+        (chains.walk, SUITE, I, 0, 0, n, 255, [1]), (chains.walk, SUITE, I, 0, 0, n, n, [1]),
+        (onetime.chain_value, ONCE, I, 0, [1], n, 0), (onetime.chain_value, ONCE, I, 0, [1], 0, n),
+        (onetime.sign_once, ONCE, I, n, [1], []), (onetime.candidate, ONCE, I, n, [], ([1], VALUES)),
+        (onetime.write_once_key, ONCE, I, n, [1]),
+        (tree.path_of, SUITE, [[1]], never, n), (tree.node_of, SUITE, never, never, n, 0),
+        (tree.climb, SUITE, never, n, [1], []), (tree.grown, SUITE, n, never, never, 0),
+        (tree.grown, SUITE, 1, never, never, n),
+        (joint.joint_places, n, [0]), (joint.joint_places, 2, [n]),
+        (joint.joint_climb, SUITE, never, 1, [(n, [1])], []),
+        (batch.batch_height, n), (batch.batch_opening, SUITE, [[1]], n), (batch.opened_head, SUITE, [], (n, 0, [])),
+        (batch.opened_head, SUITE, [], (1, n, [])), (batch.joint_opening, SUITE, [[1]], [n]),
+        (lms.TreeKind, ONCE, n), (lms.leaf_list, I, n, [1]), (lms.node_list, I, n, [1], [1]),
+        (lms.leaf_value, KIND, I, [1], n), (lms.join_nodes, KIND, I, n, [1], [1]), (lms.node_value, KIND, I, [1], n),
+        (lms.tree_path, KIND, I, [1], n), (lms.sign_tree, KIND, I, [1], n, []), (lms.child, KIND, I, [1], n),
+        (lms.tree_candidate, KIND, I, [], (n, ([1], VALUES), [[1]])),
+    ]
+
+
+class GreatNumbers(Case):
+    def test_what_is_out_of_range(self):
+        for number in (GREAT, -GREAT):
+            for call in calls(number):
+                with self.subTest(function=call[0].__name__):
+                    self.raises(OutOfRange, *call)
+
+    def test_codes(self):
+        for number in (GREAT, -GREAT):
+            self.raises(Malformed, coefficients.one_time_of, number)
+            self.raises(Malformed, lms.tree_kind_of, number, ONCE.code)
+            self.raises(Malformed, lms.tree_kind_of, KIND.code, number)
+
+    def test_items_of_a_list(self):
+        self.assertIs(octets.is_bytes([GREAT]), False)
+        self.raises(Malformed, tree.climb, SUITE, never, 0, [GREAT], [])
+        self.raises(OutOfRange, lms.leaf_value, KIND, [GREAT] * 16, [1], 0)
+
+    def test_the_number_of_a_line(self):
+        self.assertEqual(errors.BadLine(GREAT).line, GREAT)
