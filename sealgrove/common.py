@@ -61,3 +61,22 @@ def pieces(data, size):
 def row_of(data, items, loose):
     """Return the row of a byte list in which the items stand."""
     return tuple(data), tuple([tuple(item) for item in items]), loose
+
+
+def chains_rows(suite, text, digits, top, values):
+    """Return the ends of chains, and the rows of their steps: those of each chain from the last step down.
+
+    text returns the list of a chain, a step and a value.
+    """
+    reached_ends = []
+    rows = []
+    for chain, value in enumerate(values):
+        reached = value
+        steps = []
+        for step in range(digits[chain], top):
+            data = text(chain, step, reached)
+            steps.append(row_of(data, [reached], False))
+            reached = suite.digest(data)
+        reached_ends.append(reached)
+        rows.extend(steps[::-1])
+    return reached_ends, rows

@@ -3,7 +3,7 @@
 from sealgrove.chains import ends_list, message_list, randomizer_list, secret_list, step_list, walk
 from sealgrove.coefficients import one_time_of
 from sealgrove.common import (
-    are_values, has_size, joined, need_message, need_place, need_size, need_within, pieces, row_of,
+    are_values, chains_rows, has_size, joined, need_message, need_place, need_size, need_within, pieces, row_of,
 )
 from sealgrove.errors import Malformed, OutOfRange
 from sealgrove.octets import is_bytes, number_of, u32
@@ -144,23 +144,10 @@ def once_rows(kind, identifier, q, message, signature):
     """Return the rows of a signature, from the ends list to the message list."""
     randomizer, values = signature
     digits = message_digits(kind, identifier, q, randomizer, message)
-    reached = []
-    steps = []
-    for chain, value in enumerate(values):
-        rows, end = chain_rows(kind, identifier, q, chain, digits[chain], value)
-        reached.append(end)
-        steps.extend(rows)
+    reached, steps = chains_rows(
+        kind.suite, lambda chain, step, value: step_list(identifier, q, chain, step, value),
+        digits, kind.top, values,
+    )
     first = row_of(ends_list(identifier, q, reached), reached, False)
     last = row_of(message_list(identifier, q, randomizer, message), [], True)
     return [first] + steps + [last]
-
-
-def chain_rows(kind, identifier, q, chain, digit, value):
-    """Return the rows of a chain from the last step down to the digit, and its end."""
-    rows = []
-    reached = value
-    for step in range(digit, kind.top):
-        data = step_list(identifier, q, chain, step, reached)
-        rows.append(row_of(data, [reached], False))
-        reached = kind.suite.digest(data)
-    return rows[::-1], reached

@@ -12,7 +12,7 @@ def frozen(value):
         return type(value).__name__, tuple(frozen(item) for item in value)
     if isinstance(value, dict):
         return "dict", tuple((frozen(key), frozen(value[key])) for key in value)
-    if type(value).__name__ in ("Suite", "OneTime", "TreeKind"):
+    if type(value).__name__ in ("Suite", "OneTime", "TreeKind", "Stateless", "Tower"):
         return type(value).__name__, frozen(vars(value))
     return value
 
@@ -58,6 +58,19 @@ def leaves_of(name, height, seed=0):
     return [some_bytes(size, seed + k) for k in range(2 ** height)]
 
 
+def shorter_and_longer(data):
+    """The byte list with a byte left out, with one put in, and cut, at many places of it."""
+    for at in sorted({0, 1, 3, 4, 7, 8, len(data) // 3, len(data) // 2, len(data) - 1}):
+        if at < len(data):
+            yield data[:at] + data[at + 1:]
+            yield data[:at] + [data[at]] + data[at:]
+            yield data[:at] + [0] + data[at:]
+            yield data[:at]
+            yield data[at + 1:]
+    yield data + [0]
+    yield data + data
+
+
 class Case(unittest.TestCase):
     def pure(self, function, *args, **named):
         """What the call returns, after a look at point 2: it changes no argument,
@@ -83,3 +96,16 @@ class Case(unittest.TestCase):
             function(*args, **named)
         self.assertIs(type(caught.exception), error)
         self.assertEqual(before, frozen((args, named)), "an argument was changed")
+
+    def hang_together(self, suite, rows, root):
+        """The digest of the first list is the root, and that of each other one that is not loose stands as an item
+        in a row before it."""
+        shown = {tuple(root)}
+        for data, items, loose in rows:
+            self.assertIs(type(data), tuple)
+            self.assertIs(type(items), tuple)
+            self.assertTrue(all(type(item) is tuple for item in items))
+            self.assertIs(type(loose), bool)
+            if not loose:
+                self.assertIn(tuple(suite.digest(list(data))), shown)
+            shown.update(items)

@@ -42,6 +42,10 @@ def num(number, count):
     return list(number.to_bytes(count, "big"))
 
 
+def number(data):
+    return int.from_bytes(bytes(data), "big")
+
+
 def parameters(name, width):
     """top, u, v, ls and p."""
     top = 2 ** width - 1
@@ -226,3 +230,105 @@ def lms_candidate(name, width, h, identifier, message, signature):
         r //= 2
         value = digest(name, identifier + num(r, 4) + [131, 131] + both)
     return value
+
+
+# Part 4: forms and rows.
+
+
+def suite_code(name):
+    """What a code has of the suite, behind the first number of its kind."""
+    return 65536 * (0 if name.startswith("sha-") else 1) + 256 * size(name)
+
+
+def once_code(name, width):
+    return {1: 1, 2: 2, 4: 3, 8: 4}[width] if name == "sha-32" else 3758096384 + suite_code(name) + width
+
+
+def kind_code(name, h):
+    return 4 + h // 5 if name == "sha-32" and h in (5, 10, 15, 20, 25) else 3892314112 + suite_code(name) + h
+
+
+def lms_public(name, width, h, identifier, root):
+    return num(kind_code(name, h), 4) + num(once_code(name, width), 4) + identifier + root
+
+
+def lms_form(name, width, h, signature):
+    q, (randomizer, values), path = signature
+    once = num(once_code(name, width), 4) + randomizer + sum(values, [])
+    return num(q, 4) + once + num(kind_code(name, h), 4) + sum(path, [])
+
+
+def lms_sign(name, width, h, identifier, seed, q, message):
+    return q, once_sign(name, width, identifier, q, seed, message), lms_path(name, width, h, identifier, seed, q)
+
+
+def lms_rows(name, width, h, identifier, message, signature):
+    q, once, values = signature
+    r = 2 ** h + q
+    key = once_candidate(name, width, identifier, q, message, once)
+    rows = [row(identifier + num(r, 4) + [130, 130] + key, [key])]
+    for other in values:
+        value = digest(name, list(rows[0][0]))
+        left, right = (value, other) if r % 2 == 0 else (other, value)
+        r //= 2
+        rows.insert(0, row(identifier + num(r, 4) + [131, 131] + left + right, [left, right]))
+    return rows + once_rows(name, width, identifier, q, message, once)
+
+
+# Part 5: kept paths.
+
+
+class Rounds:
+    """The rounds of a kept path, by the words of points 86 to 88. A node is a tuple (level, index)."""
+
+    def __init__(self, h, schedule):
+        self.h, self.schedule, self.place = h, schedule, 0
+        self.path = [(z, 1) for z in range(h)]
+        self.targets, self.stacks = [None] * h, [[] for _ in range(h)]
+        for z in range(h):
+            self.set(z)
+        self.work()
+
+    def set(self, z):
+        later = self.place + 2 ** z
+        self.stacks[z] = []
+        self.targets[z] = later // 2 ** z ^ 1 if later < 2 ** self.h else None
+
+    def is_ready(self, z):
+        return self.targets[z] is None or self.stacks[z] == [(z, self.targets[z])]
+
+    def tail(self, z):
+        return self.stacks[z][-1][0] if self.stacks[z] else z
+
+    def unit(self, z):
+        stack = self.stacks[z]
+        if len(stack) > 1 and stack[-1][0] == stack[-2][0]:
+            level, index = stack[-1]
+            stack[-2:] = [(level + 1, index // 2)]
+            self.parents += 1
+        else:
+            had = [index * 2 ** level + 2 ** level for level, index in stack]
+            stack.append((0, had[-1] if had else self.targets[z] * 2 ** z))
+            self.leaves += 1
+        self.most = max(self.most, sum(map(len, self.stacks)))
+
+    def work(self):
+        self.leaves = self.parents = self.most = 0
+        if self.schedule == "even":
+            for z in range(self.h):
+                for _ in range(2):
+                    if not self.is_ready(z):
+                        self.unit(z)
+        else:
+            for _ in range(2 * self.h - 1):
+                open_ones = [z for z in range(self.h) if not self.is_ready(z)]
+                if open_ones:
+                    self.unit(min(open_ones, key=lambda z: (self.tail(z), z)))
+
+    def next(self):
+        self.place += 1
+        for z in range(self.h):
+            if self.place % 2 ** z == 0:
+                [self.path[z]] = self.stacks[z]
+                self.set(z)
+        self.work()

@@ -57,6 +57,47 @@ EXAMPLES = """
 >>> from sealgrove.batchforms import batch_bytes
 >>> batch_bytes(suite_named("small-1"), (2, 1, [[77]]), [5])
 [0, 0, 0, 2, 0, 0, 0, 1, 77, 5]
+
+>>> from sealgrove.kept import shape
+>>> shape(3, 0, "even")
+[[0], [0, 0], [0, 0]]
+
+>>> from sealgrove.kept import shape
+>>> shape(3, 0, "lowest")
+[[0], [1], [0]]
+
+>>> from sealgrove.kept import KeptPath
+>>> from sealgrove.suites import suite_named
+>>> kept = KeptPath(suite_named("small-1"), 1, lambda q: [q], lambda z, i, left, right: left + right)
+>>> kept.advance()
+(0, 0)
+>>> kept.path()
+[[0]]
+
+>>> from sealgrove.schemes import scheme_named
+>>> scheme_named("sha2-128s").signature_size
+7856
+
+>>> from sealgrove.schemes import Stateless
+>>> from sealgrove.suites import suite_named
+>>> Stateless(suite_named("small-1"), 4, 3, 3, 2, 2).digest_size
+4
+
+>>> from sealgrove.address import short_form
+>>> short_form((1, 2, 3, 4, 5, 258))
+[1, 0, 0, 0, 0, 0, 0, 0, 2, 3, 0, 0, 0, 4, 0, 0, 0, 5, 0, 0, 1, 2]
+
+>>> from sealgrove.address import address_of
+>>> address_of([0] * 21 + [9])
+(0, 0, 0, 0, 0, 9)
+
+>>> from sealgrove.hashes import bit_digits
+>>> bit_digits([18, 52], 3, 5)
+[0, 4, 4, 3, 2]
+
+>>> from sealgrove.hashes import bit_digits
+>>> bit_digits([255, 1], 16, 1)
+[65281]
 """
 
 README = os.path.join(os.path.dirname(os.path.dirname(os.path.abspath(__file__))), "README.md")

@@ -2,7 +2,10 @@
 so that no text of an error may be made of a number that has no bound."""
 
 from helpers import Case, never
-from sealgrove import batch, chains, coefficients, errors, joint, lms, octets, onetime, suites, tree
+from sealgrove import (
+    address, batch, chains, coefficients, errors, hashes, joint, kept, keptkeys, lms, lmsforms, octets, onetime, plus,
+    schemes, suites, tree,
+)
 from sealgrove.errors import Malformed, OutOfRange
 
 GREAT = 10 ** 5000
@@ -11,6 +14,9 @@ SUITE = suites.suite_named("small-1")
 ONCE = coefficients.OneTime(SUITE, 8)
 KIND = lms.TreeKind(ONCE, 1)
 VALUES = [[1]] * ONCE.p
+SCHEME = schemes.Stateless(SUITE, 8, 1, 1, 1, 1)
+PATH = kept.KeptPath(SUITE, 1, lambda q: [q], lambda z, i, left, right: left + right)
+KEY = keptkeys.KeptKey(KIND, I, [1])
 
 
 def calls(n):
@@ -37,6 +43,15 @@ def calls(n):
         (lms.leaf_value, KIND, I, [1], n), (lms.join_nodes, KIND, I, n, [1], [1]), (lms.node_value, KIND, I, [1], n),
         (lms.tree_path, KIND, I, [1], n), (lms.sign_tree, KIND, I, [1], n, []), (lms.child, KIND, I, [1], n),
         (lms.tree_candidate, KIND, I, [], (n, ([1], VALUES), [[1]])),
+        (lmsforms.write_tree, KIND, (n, ([1], VALUES), [[1]])),
+        (kept.shape, n, 0, "even"), (kept.shape, 1, n, "even"), (kept.KeptPath, SUITE, n, never, never),
+        (PATH.go_to, n), (PATH.stack, n), (PATH.target, n), (KEY.sign_at, n, []),
+        (schemes.Stateless, SUITE, n, 1, 1, 1, 1), (schemes.Stateless, SUITE, 8, n, 1, 1, 1),
+        (schemes.Stateless, SUITE, 8, 1, n, 1, 1), (schemes.Stateless, SUITE, 8, 1, 1, n, 1),
+        (schemes.Stateless, SUITE, 8, 1, 1, 1, n), (address.long_form, (0, n, 0, 0, 0, 0)),
+        (address.short_form, (0, 0, n, 0, 0, 0)), (hashes.bit_digits, [1], n, 1), (hashes.bit_digits, [1], 1, n),
+        (plus.plus_run, SCHEME, [1], (0, 0, 0), 0, [1], n, n), (plus.plus_key, SCHEME, [1], [1], (0, 0, n)),
+        (plus.plus_step_list, SCHEME, [1], (0, n, 0), 0, 0, [1]), (plus.plus_value, SCHEME, [1], [1], (0, 0, 0), n, 0),
     ]
 
 
@@ -45,7 +60,7 @@ class GreatNumbers(Case):
         for number in (GREAT, -GREAT):
             for call in calls(number):
                 with self.subTest(function=call[0].__name__):
-                    self.raises(OutOfRange, *call)
+                    self.raises(OutOfRange, call[0], *call[1:])
 
     def test_codes(self):
         for number in (GREAT, -GREAT):

@@ -55,6 +55,26 @@ FUNCTIONS = {
         "tree_candidate(kind, identifier, message, signature)",
         "accepts_tree(kind, identifier, root, message, signature)", "child(kind, identifier, seed, q)",
     ],
+    "lmsforms": [
+        "write_public(kind, identifier, root)", "read_public(data)", "write_tree(kind, signature)",
+        "read_tree(kind, data)", "verify_tree(public, message, data)", "lms_rows(public, message, data)",
+    ],
+    "kept": ["kept_of(suite, leaf, text, data)", "shape(height, place, schedule)"],
+    "keptkeys": ["kept_key_of(kind, identifier, seed, data)"],
+    "schemes": ["scheme_named(name)"],
+    "address": ["long_form(address)", "short_form(address)", "address_of(data)"],
+    "hashes": [
+        "addressed_list(suite, seed, address, data)", "addressed(suite, seed, address, data)",
+        "randomizer_of(suite, key, extra, message)",
+        "message_digest(suite, randomizer, seed, root, message, count)", "bit_digits(data, bits, count)",
+    ],
+    "plus": [
+        "plus_step_list(scheme, seed, at, chain, step, value)", "plus_ends_list(scheme, seed, at, ends)",
+        "plus_run(scheme, seed, at, chain, value, start, stop)",
+        "plus_value(scheme, seed, secret, at, chain, step)", "plus_key(scheme, seed, secret, at)",
+        "plus_sign(scheme, seed, secret, at, data)", "plus_candidate(scheme, seed, at, data, values)",
+        "plus_rows(scheme, seed, at, data, values)",
+    ],
 }
 
 CLASSES = {
@@ -70,6 +90,16 @@ CLASSES = {
         "OneTime": ["__init__(self, suite, width)", "check_sum(self, digest)", "digits(self, digest)"],
     },
     "lms": {"TreeKind": ["__init__(self, one_time, height)"]},
+    "kept": {
+        "KeptPath": ["__init__(self, suite, height, leaf, text, *, place=0, schedule='even')", "path(self)",
+                     "advance(self)", "go_to(self, place)", "stack(self, level)", "target(self, level)", "kept(self)",
+                     "state(self)"],
+    },
+    "keptkeys": {
+        "KeptKey": ["__init__(self, kind, identifier, seed, *, place=0, schedule='even')", "sign(self, message)",
+                    "sign_at(self, place, message)", "root(self)", "state(self)"],
+    },
+    "schemes": {"Stateless": ["__init__(self, suite, width, a, k, rise, layers)"]},
 }
 
 
