@@ -6,6 +6,9 @@ from sealgrove.octets import big, number_of, within
 
 STEP = 0
 ENDS = 1
+NODE = 2
+FOREST = 3
+ROOTS = 4
 CHAIN_SECRET = 5
 LEAF_SECRET = 6
 

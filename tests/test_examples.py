@@ -98,6 +98,20 @@ EXAMPLES = """
 >>> from sealgrove.hashes import bit_digits
 >>> bit_digits([255, 1], 16, 1)
 [65281]
+
+>>> from sealgrove.forest import picks
+>>> from sealgrove.schemes import Stateless
+>>> from sealgrove.suites import suite_named
+>>> picks(Stateless(suite_named("small-1"), 4, 3, 3, 2, 2), [18, 52])
+[0, 12, 20]
+
+>>> from sealgrove.frames import pure_frame
+>>> pure_frame([7], [1, 2])
+[0, 1, 7, 1, 2]
+
+>>> from sealgrove.frames import frame_parts
+>>> frame_parts([0, 0])
+('pure', [], [])
 """
 
 README = os.path.join(os.path.dirname(os.path.dirname(os.path.abspath(__file__))), "README.md")

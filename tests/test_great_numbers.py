@@ -3,8 +3,8 @@ so that no text of an error may be made of a number that has no bound."""
 
 from helpers import Case, never
 from sealgrove import (
-    address, batch, chains, coefficients, errors, hashes, joint, kept, keptkeys, lms, lmsforms, octets, onetime, plus,
-    schemes, suites, tree,
+    address, batch, chains, coefficients, errors, forest, hashes, hyper, joint, kept, keptkeys, layers, lms, lmsforms,
+    octets, onetime, plus, schemes, suites, tower, tree,
 )
 from sealgrove.errors import Malformed, OutOfRange
 
@@ -17,6 +17,8 @@ VALUES = [[1]] * ONCE.p
 SCHEME = schemes.Stateless(SUITE, 8, 1, 1, 1, 1)
 PATH = kept.KeptPath(SUITE, 1, lambda q: [q], lambda z, i, left, right: left + right)
 KEY = keptkeys.KeptKey(KIND, I, [1])
+TOWER = tower.Tower([KIND, KIND])
+HIGH = [7] * 7 + [0] * 9
 
 
 def calls(n):
@@ -52,6 +54,12 @@ def calls(n):
         (address.short_form, (0, 0, n, 0, 0, 0)), (hashes.bit_digits, [1], n, 1), (hashes.bit_digits, [1], 1, n),
         (plus.plus_run, SCHEME, [1], (0, 0, 0), 0, [1], n, n), (plus.plus_key, SCHEME, [1], [1], (0, 0, n)),
         (plus.plus_step_list, SCHEME, [1], (0, n, 0), 0, 0, [1]), (plus.plus_value, SCHEME, [1], [1], (0, 0, 0), n, 0),
+        (forest.forest_secret, SCHEME, [1], [1], (0, 0), n), (forest.forest_key, SCHEME, [1], [1], (n, 0)),
+        (forest.forest_fork_list, SCHEME, [1], (0, 0), n, 0, [1], [1]),
+        (layers.layer_root, SCHEME, [1], [1], (n, 0)), (layers.layer_node_list, SCHEME, [1], (0, 0), 1, n, [1], [1]),
+        (hyper.hyper_sign, SCHEME, [1], [1], (n, 0), [1]), (hyper.hyper_sign, SCHEME, [1], [1], (0, n), [1]),
+        (TOWER.places, n), (TOWER.number_of, [0, n]), (tower.level_key, TOWER, HIGH, [1], [n]),
+        (tower.sign_tower, TOWER, HIGH, [1], n, []), (tower.TowerSigner(TOWER, HIGH, [1]).skip, n),
     ]
 
 
@@ -67,6 +75,10 @@ class GreatNumbers(Case):
             self.raises(Malformed, coefficients.one_time_of, number)
             self.raises(Malformed, lms.tree_kind_of, number, ONCE.code)
             self.raises(Malformed, lms.tree_kind_of, KIND.code, number)
+
+    def test_the_start_of_a_signer(self):
+        for number in (GREAT, -GREAT):
+            self.raises(OutOfRange, tower.TowerSigner, TOWER, HIGH, [1], start=number)
 
     def test_items_of_a_list(self):
         self.assertIs(octets.is_bytes([GREAT]), False)

@@ -75,6 +75,40 @@ FUNCTIONS = {
         "plus_sign(scheme, seed, secret, at, data)", "plus_candidate(scheme, seed, at, data, values)",
         "plus_rows(scheme, seed, at, data, values)",
     ],
+    "forest": [
+        "forest_leaf_list(scheme, seed, at, index, value)",
+        "forest_fork_list(scheme, seed, at, level, index, left, right)", "forest_roots_list(scheme, seed, at, roots)",
+        "forest_secret(scheme, seed, secret, at, index)", "forest_key(scheme, seed, secret, at)", "picks(scheme, data)",
+        "forest_sign(scheme, seed, secret, at, data)", "forest_candidate(scheme, seed, at, data, shown)",
+        "forest_rows(scheme, seed, at, data, shown)",
+    ],
+    "layers": [
+        "layer_node_list(scheme, seed, at, level, index, left, right)", "layer_root(scheme, seed, secret, at)",
+        "layer_sign(scheme, seed, secret, at, data)", "layer_candidate(scheme, seed, at, data, signature)",
+        "layer_rows(scheme, seed, at, data, signature)",
+    ],
+    "tower": [
+        "level_key(tower, identifier, seed, places)", "tower_public(tower, identifier, seed)", "read_tower_public(data)",
+        "sign_tower(tower, identifier, seed, number, message)", "read_tower(public, data)",
+        "write_tower(public, signature)", "number_in(public, data)", "verify_tower(public, message, data)",
+        "tower_rows(public, message, data)",
+    ],
+    "hyper": [
+        "cut_digest(scheme, digest)", "hyper_sign(scheme, seed, secret, at, data)",
+        "hyper_candidate(scheme, seed, at, data, signature)",
+    ],
+    "parts": ["parts_of(scheme, signature)", "joined_parts(scheme, parts)"],
+    "stateless": [
+        "stateless_key(scheme, secret, message_key, seed)", "public_of(scheme, key)", "key_holds(scheme, key)",
+        "sign_raw(scheme, key, message, extra=None)", "accepts_raw(scheme, public, message, signature)",
+        "things_of(scheme, public, message, signature)", "shown_leaves(scheme, public, message, signature)",
+        "stateless_rows(scheme, public, message, signature)",
+    ],
+    "frames": [
+        "pure_frame(context, message)", "digested_frame(suite, context, message)", "frame_parts(data)",
+        "sign_framed(scheme, key, message, *, context, digested=False, extra=None)",
+        "accepts_framed(scheme, public, message, signature, *, context, digested=False)",
+    ],
 }
 
 CLASSES = {
@@ -100,6 +134,11 @@ CLASSES = {
                     "sign_at(self, place, message)", "root(self)", "state(self)"],
     },
     "schemes": {"Stateless": ["__init__(self, suite, width, a, k, rise, layers)"]},
+    "tower": {
+        "Tower": ["__init__(self, kinds)", "places(self, number)", "number_of(self, places)"],
+        "TowerSigner": ["__init__(self, tower, identifier, seed, *, start=0)", "public(self)", "next_number(self)",
+                        "left(self)", "sign(self, message)", "skip(self, count)"],
+    },
 }
 
 
