@@ -2,7 +2,7 @@
 
 from sealgrove.address import FOREST, LEAF_SECRET, ROOTS
 from sealgrove.common import are_values, has_size, joined, need_within, row_of
-from sealgrove.errors import Malformed, OutOfRange
+from sealgrove.errors import Malformed
 from sealgrove.hashes import addressed, addressed_list, bit_digits
 from sealgrove.schemes import need_leaf
 from sealgrove.tree import climb, climb_rows, grown
@@ -34,7 +34,6 @@ def forest_leaf_list(scheme, seed, at, index, value):
 
 def forest_fork_list(scheme, seed, at, level, index, left, right):
     """Return the fork list of a node above the leaves."""
-    need_forest(scheme, at)
     need_within(level, 1, scheme.a, "the level")
     need_node(scheme, at, level, index)
     return addressed_list(scheme.suite, seed, forest_address(at, FOREST, level, index), left + right)
@@ -84,8 +83,6 @@ def forest_key(scheme, seed, secret, at):
 
 def picks(scheme, data):
     """Return the index of the leaf that the data pick in each tree."""
-    if len(data) < scheme.picks_size:
-        raise OutOfRange("the data are too short to pick a leaf in each tree")
     digits = bit_digits(data, scheme.a, scheme.k)
     return [(number << scheme.a) + digit for number, digit in enumerate(digits)]
 

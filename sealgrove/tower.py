@@ -96,7 +96,7 @@ def tower_public(tower, identifier, seed):
 
 def read_tower_public(data):
     """Return the number of the levels, and the kind, the identifier and the root of the highest tree."""
-    if not is_bytes(data) or len(data) < 4 or not within(number_of(data[:4]), 1, MOST_LEVELS):
+    if not is_bytes(data) or not within(number_of(data[:4]), 1, MOST_LEVELS):
         raise Malformed("the list does not begin with a number of levels")
     kind, identifier, root = read_public(data[4:])
     return number_of(data[:4]), kind, identifier, root
@@ -120,7 +120,7 @@ def kind_below(kind, form):
 def read_tower(public, data):
     """Return the tower signature of which the list is the form, for the form of a public key."""
     levels, kind, _, _ = read_tower_public(public)
-    if not is_bytes(data) or len(data) < 4 or number_of(data[:4]) != levels - 1:
+    if not is_bytes(data) or number_of(data[:4]) != levels - 1:
         raise Malformed("the signature has another number of levels")
     pairs = []
     height = kind.height

@@ -4,6 +4,13 @@ import random
 import unittest
 
 import reference
+from sealgrove.coefficients import OneTime
+from sealgrove.lms import TreeKind
+from sealgrove.suites import suite_named
+
+TREE_KINDS = (
+    ("small-1", 8, 0), ("small-1", 4, 3), ("small-2", 2, 2), ("small-3", 8, 1), ("sha-4", 4, 2), ("sha-32", 1, 1),
+)
 
 
 def frozen(value):
@@ -69,6 +76,18 @@ def shorter_and_longer(data):
             yield data[at + 1:]
     yield data + [0]
     yield data + data
+
+
+def kind_of(name, width, height):
+    """A kind of tree keys."""
+    return TreeKind(OneTime(suite_named(name), width), height)
+
+
+def tree_kinds():
+    """Kinds of tree keys as words and as objects, with a seed."""
+    for words in TREE_KINDS:
+        kind = kind_of(*words)
+        yield words, kind, some_bytes(kind.suite.size, 3)
 
 
 class Case(unittest.TestCase):

@@ -1,22 +1,16 @@
 """Point 95: kept keys."""
 
 import reference
-from helpers import Case, changed, some_bytes
-from sealgrove.coefficients import OneTime
+from helpers import Case, changed, kind_of, some_bytes
 from sealgrove.errors import Malformed, OutOfRange, Refused, UsedUp
 from sealgrove.kept import KeptPath
 from sealgrove.keptkeys import KeptKey, kept_key_of
-from sealgrove.lms import TreeKind, accepts_tree, leaf_value, node_text, sign_tree, tree_root
+from sealgrove.lms import accepts_tree, leaf_value, node_text, sign_tree, tree_root
 from sealgrove.lmsforms import lms_rows, verify_tree, write_public, write_tree
-from sealgrove.suites import suite_named
 
 I = list(range(50, 66))
 SCHEDULES = ("even", "lowest")
 KINDS = (("small-1", 8, 0), ("small-1", 4, 3), ("small-2", 2, 2), ("sha-3", 4, 1))
-
-
-def kind_of(name, width, height):
-    return TreeKind(OneTime(suite_named(name), width), height)
 
 
 def samples():

@@ -1,7 +1,7 @@
 """Points 65 to 73: tree keys."""
 
 import reference
-from helpers import Case, changed, some_bytes
+from helpers import Case, changed, kind_of, some_bytes, tree_kinds
 from sealgrove.coefficients import OneTime
 from sealgrove.errors import Malformed, OutOfRange, Refused
 from sealgrove.lms import (
@@ -13,17 +13,6 @@ from sealgrove.tree import climb
 
 I = list(range(50, 66))
 LAST = 4294967295
-KINDS = (("small-1", 8, 0), ("small-1", 4, 3), ("small-2", 2, 2), ("small-3", 8, 1), ("sha-4", 4, 2), ("sha-32", 1, 1))
-
-
-def kind_of(name, width, height):
-    return TreeKind(OneTime(suite_named(name), width), height)
-
-
-def samples():
-    for name, width, height in KINDS:
-        kind = kind_of(name, width, height)
-        yield (name, width, height), kind, some_bytes(kind.suite.size, 3)
 
 
 class Kinds(Case):
@@ -112,7 +101,7 @@ class Lists(Case):
 
 class Nodes(Case):
     def test_nodes_against_their_lists(self):
-        for (name, width, height), kind, seed in samples():
+        for (name, width, height), kind, seed in tree_kinds():
             for number in range(1, 2 ** (height + 1)):
                 known = reference.lms_value(name, width, height, I, seed, number)
                 self.assertEqual(self.pure(node_value, kind, I, seed, number), known)
@@ -125,7 +114,7 @@ class Nodes(Case):
             self.assertEqual(self.pure(tree_root, kind, I, seed), root)
 
     def test_joined_nodes(self):
-        for (name, width, height), kind, seed in samples():
+        for (name, width, height), kind, seed in tree_kinds():
             left, right = some_bytes(kind.suite.size, 1), some_bytes(kind.suite.size, 2)
             for number in range(1, 2 ** height):
                 text = I + reference.num(number, 4) + [131, 131] + left + right
@@ -141,7 +130,7 @@ class Nodes(Case):
         self.assertEqual(leaf_value(tree_kind_of(5, 4), identifier, seed, 4), known)
 
     def test_what_there_is_not(self):
-        for (name, width, height), kind, seed in samples():
+        for (name, width, height), kind, seed in tree_kinds():
             value = some_bytes(kind.suite.size)
             for number in (-1, 0, 2 ** (height + 1), 2 ** (height + 1) + 1, LAST, 2 ** 40):
                 self.raises(OutOfRange, node_value, kind, I, seed, number)
@@ -173,7 +162,7 @@ class Texts(Case):
         self.assertEqual(text(1, 0, [1, 2], [3, 4]), known)
 
     def test_climbing_by_the_path_gives_the_root(self):
-        for _, kind, seed in samples():
+        for _, kind, seed in tree_kinds():
             root = tree_root(kind, I, seed)
             for q in range(kind.places):
                 value = leaf_value(kind, I, seed, q)
@@ -182,7 +171,7 @@ class Texts(Case):
 
 class Signing(Case):
     def test_signatures_against_their_parts(self):
-        for (name, width, height), kind, seed in samples():
+        for (name, width, height), kind, seed in tree_kinds():
             root = reference.lms_value(name, width, height, I, seed, 1)
             for q in range(2 ** height):
                 for message in ([], [1, 2, 3]):
@@ -194,7 +183,7 @@ class Signing(Case):
                     self.assertIs(self.pure(accepts_tree, kind, I, root, message, signature), True)
 
     def test_a_path_that_is_handed_over(self):
-        for _, kind, seed in samples():
+        for _, kind, seed in tree_kinds():
             for q in range(kind.places):
                 plain = sign_tree(kind, I, seed, q, [1])
                 path = [list(value) for value in plain[2]]
@@ -217,7 +206,7 @@ class Signing(Case):
         self.assertTrue(accepts_tree(kind, I, known, [1], signature))
 
     def test_what_was_changed(self):
-        for (name, width, height), kind, seed in samples():
+        for (name, width, height), kind, seed in tree_kinds():
             root = tree_root(kind, I, seed)
             q = kind.places - 1
             signature = sign_tree(kind, I, seed, q, [1, 2, 3])
@@ -243,7 +232,7 @@ class Signing(Case):
                     self.assertNotEqual(known, key)
 
     def test_numbers_that_are_no_place(self):
-        for _, kind, seed in samples():
+        for _, kind, seed in tree_kinds():
             root = tree_root(kind, I, seed)
             q, once, path = sign_tree(kind, I, seed, 0, [1])
             for number in (kind.places, kind.places + 1, 2 * kind.places, LAST):
@@ -320,7 +309,7 @@ class Bounds(Case):
 
 class Children(Case):
     def test_children(self):
-        for (name, width, height), kind, seed in samples():
+        for (name, width, height), kind, seed in tree_kinds():
             mark = [9, 8, 7, 6, 5, 4, 3]
             for level in (0, 1, 100, 254):
                 for number in (0, 1, 255, 2 ** 32 + 5, 2 ** (64 - height) - 1):
@@ -343,7 +332,7 @@ class Children(Case):
         self.assertEqual(len(set(found)), 4 + 16 + 64 + 256)
 
     def test_levels_and_numbers_without_room(self):
-        for _, kind, seed in samples():
+        for _, kind, seed in tree_kinds():
             height = kind.height
             for q in (0, kind.places - 1):
                 for number in (0, 5):

@@ -3,32 +3,19 @@
 import itertools
 
 import reference
-from helpers import Case, changed, shorter_and_longer, some_bytes
-from sealgrove.coefficients import OneTime
+from helpers import Case, changed, kind_of, shorter_and_longer, tree_kinds
 from sealgrove.errors import Malformed, OutOfRange
-from sealgrove.lms import TreeKind, sign_tree, tree_root
+from sealgrove.lms import sign_tree, tree_root
 from sealgrove.lmsforms import lms_rows, read_public, read_tree, verify_tree, write_public, write_tree
-from sealgrove.suites import suite_named
 
 I = list(range(50, 66))
 LAST = 4294967295
-KINDS = (("small-1", 8, 0), ("small-1", 4, 3), ("small-2", 2, 2), ("small-3", 8, 1), ("sha-4", 4, 2), ("sha-32", 1, 1))
-
-
-def kind_of(name, width, height):
-    return TreeKind(OneTime(suite_named(name), width), height)
-
-
-def samples():
-    for name, width, height in KINDS:
-        kind = kind_of(name, width, height)
-        yield (name, width, height), kind, some_bytes(kind.suite.size, 3)
 
 
 def keys():
     """The kind as words and as an object, the root and the form of the public key, and a signature and its form."""
     message = [1, 2, 3]
-    for words, kind, seed in samples():
+    for words, kind, seed in tree_kinds():
         root = tree_root(kind, I, seed)
         signature = sign_tree(kind, I, seed, kind.places - 1, message)
         yield words, kind, root, reference.lms_public(*words, I, root), signature, reference.lms_form(*words, signature)
@@ -178,7 +165,7 @@ class SignatureForms(Case):
 
 class Checking(Case):
     def test_what_was_signed_is_accepted(self):
-        for words, kind, seed in samples():
+        for words, kind, seed in tree_kinds():
             public = write_public(kind, I, tree_root(kind, I, seed))
             for q in range(kind.places):
                 for message in ([], [1, 2, 3]):

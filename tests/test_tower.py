@@ -5,13 +5,10 @@ import unittest.mock
 
 import reference
 import reference_tower as known
-from helpers import Case, changed, shorter_and_longer, some_bytes
+from helpers import Case, changed, kind_of, shorter_and_longer, some_bytes
 from sealgrove import tower as module
-from sealgrove.coefficients import OneTime
 from sealgrove.errors import Malformed, OutOfRange, UsedUp
-from sealgrove.lms import TreeKind
 from sealgrove.lmsforms import read_public, write_public, write_tree
-from sealgrove.suites import suite_named
 from sealgrove.tower import (
     Tower, TowerSigner, level_key, number_in, read_tower, read_tower_public, sign_tower, tower_public, tower_rows,
     verify_tower, write_tower,
@@ -27,10 +24,6 @@ TOWERS = (
     [("sha-3", 4, 1), ("sha-3", 4, 1)],
     [("small-8", 1, 1), ("small-8", 4, 1), ("small-8", 2, 1)],
 )
-
-
-def kind_of(name, width, height):
-    return TreeKind(OneTime(suite_named(name), width), height)
 
 
 def tower_of(words):
