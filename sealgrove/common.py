@@ -4,6 +4,7 @@ from sealgrove.errors import OutOfRange
 from sealgrove.octets import is_bytes, within
 
 LAST_U32 = 4294967295
+LAST_U64 = 18446744073709551615
 LONGEST_MESSAGE = 65536
 
 
@@ -23,6 +24,12 @@ def need_within(value, low, high, what):
     """Refuse a number that is not from low to high."""
     if not within(value, low, high):
         raise OutOfRange(f"{what} is not from {low} to {high}")
+
+
+def need_at_least(value, low, what):
+    """Refuse a number that is less than low."""
+    if value < low:
+        raise OutOfRange(f"{what} is less than {low}")
 
 
 def need_size(value, size, what):
@@ -46,6 +53,11 @@ def need_message(message):
     """Refuse a message that is too long."""
     if len(message) > LONGEST_MESSAGE:
         raise OutOfRange(f"the message has more than {LONGEST_MESSAGE} bytes")
+
+
+def passed_on(message):
+    """Return the message for a function of the caller, which may return or change what it is passed."""
+    return list(message) if isinstance(message, list) else message
 
 
 def joined(lists):

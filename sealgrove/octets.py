@@ -12,7 +12,13 @@ def within(value, low, high):
 
 def is_bytes(value):
     """Tell whether the value, which may be of any kind, is a byte list."""
-    return isinstance(value, list) and all(within(item, 0, 255) for item in value)
+    if not isinstance(value, list):
+        return False
+    for item in value:
+        # This is written out, and not asked of `within`, because byte lists are looked at so often.
+        if not isinstance(item, int) or isinstance(item, bool) or not 0 <= item <= 255:
+            return False
+    return True
 
 
 def big(number, size):
