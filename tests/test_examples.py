@@ -112,6 +112,35 @@ EXAMPLES = """
 >>> from sealgrove.frames import frame_parts
 >>> frame_parts([0, 0])
 ('pure', [], [])
+
+>>> from sealgrove.disk import Disk
+>>> from sealgrove.keeper import Keeper
+>>> disk = Disk(64)
+>>> keeper = Keeper(disk, lambda place, message: message, 100, 4)
+>>> keeper.sign([7])
+(0, [7])
+>>> disk.crash([])
+>>> Keeper(disk, lambda place, message: message, 100, 4).next_place()
+4
+
+>>> from sealgrove.heads import accepts_consistency
+>>> from sealgrove.logbook import Logbook
+>>> from sealgrove.suites import suite_named
+>>> log = Logbook(suite_named("small-2"))
+>>> [log.append([k]) for k in range(5)]
+[0, 1, 2, 3, 4]
+>>> accepts_consistency(suite_named("small-2"), log.head(3), log.head(), log.consistency(3))
+True
+>>> len(log.inclusion(4)), len(log.inclusion(0)), log.consistency(0)
+(1, 3, [])
+
+>>> from sealgrove.scenario import read_scenario
+>>> read_scenario("sign 6869\\noffer 0 68 3=ff 5=00")
+[('sign', (104, 105)), ('offer', 0, (104,), ((3, 255), (5, 0)))]
+
+>>> from sealgrove.scenario import report
+>>> report([("signed", 0), ("head", 1, (10, 255))])
+'signed 0\\nhead 1 0aff\\n'
 """
 
 README = os.path.join(os.path.dirname(os.path.dirname(os.path.abspath(__file__))), "README.md")

@@ -109,6 +109,42 @@ FUNCTIONS = {
         "sign_framed(scheme, key, message, *, context, digested=False, extra=None)",
         "accepts_framed(scheme, public, message, signature, *, context, digested=False)",
     ],
+    "papers": ["known_rows(suite, rows)", "clash_of(suite, rows)", "judge_clash(suite, paper)"],
+    "books": [
+        "onetime_book(public, book)", "tree_book(public, book)", "tower_book(public, book)",
+        "stateless_book(scheme, public, book)", "is_plain(entries)",
+    ],
+    "accusing": [
+        "accuse_onetime(public, book, message, signature)", "accuse_tree(public, book, message, signature)",
+        "accuse_tower(public, book, message, signature)", "accuse_stateless(scheme, public, book, message, signature)",
+        "accuse_batch(suite, head, book, message, opening)",
+    ],
+    "judging": [
+        "judge_onetime(public, book, paper)", "judge_tree(public, book, paper)", "judge_tower(public, book, paper)",
+        "judge_stateless(scheme, public, book, message, signature, paper)", "judge_batch(suite, head, book, paper)",
+    ],
+    "logbook": [
+        "entry_list(entry)", "fork_list(left, right)", "split_of(count)", "log_digest(suite, entries)", "head_text(head)",
+    ],
+    "heads": [
+        "accepts_inclusion(suite, head, index, entry, path)", "accepts_consistency(suite, first, second, path)",
+        "inclusion_lists(suite, head, index, entry, path)", "consistency_lists(suite, first, second, path)",
+        "same_entry(suite, head, index, one, other)",
+        "carry_back(suite, first, second, consistency, index, entry, path)",
+        "two_faces(suite, heads, consistencies, index, one, other)",
+    ],
+    "warrants": [
+        "is_warrant(value)", "write_warrant(warrant)", "write_withdrawal(withdrawal)", "read_warrant(data)",
+        "read_withdrawal(data)", "message_text(message)",
+    ],
+    "granting": [
+        "fault(root, chain, message, signature, withdrawals, day)",
+        "carries(root, chain, message, signature, withdrawals, day)", "right_of(root, chain, withdrawals)",
+        "days_of(root, chain, message, signature, withdrawals)", "pairs_of(root, chain, message, signature)",
+        "text_entry(text, signature)", "withdrawals_in(entries)",
+    ],
+    "house": ["run(house, deeds)"],
+    "scenario": ["read_scenario(text)", "write_scenario(deeds)", "report(outcomes)"],
 }
 
 CLASSES = {
@@ -138,6 +174,38 @@ CLASSES = {
         "Tower": ["__init__(self, kinds)", "places(self, number)", "number_of(self, places)"],
         "TowerSigner": ["__init__(self, tower, identifier, seed, *, start=0)", "public(self)", "next_number(self)",
                         "left(self)", "sign(self, message)", "skip(self, count)"],
+    },
+    "disk": {
+        "Disk": ["__init__(self, size, image=None)", "write(self, at, data)", "sync(self)", "read(self, at, count)",
+                 "crash(self, picks)", "fail_after(self, count)", "deeds(self)", "loose(self)", "versions(self, at)",
+                 "image(self)", "claim(self)", "is_user(self, number)"],
+    },
+    "journal": {
+        "Journal": ["__init__(self, disk)", "records(self)", "append(self, record)", "rewrite(self, records)",
+                    "room(self)", "is_stale(self)"],
+    },
+    "keeper": {
+        "Keeper": ["__init__(self, disk, sign, places, block)", "sign(self, message)", "skip(self, count)", "left(self)",
+                   "next_place(self)", "limit(self)"],
+        "TreeKeeper": ["__init__(self, disk, kind, identifier, seed, block, *, schedule='even')", "sign(self, message)",
+                       "skip(self, count)", "left(self)", "next_place(self)", "limit(self)", "public(self)"],
+        "TowerKeeper": ["__init__(self, disk, tower, identifier, seed, block)", "sign(self, message)",
+                        "skip(self, count)", "left(self)", "next_place(self)", "limit(self)", "public(self)"],
+    },
+    "leases": {
+        "Office": ["__init__(self, disk, places, span)", "ask(self, signer, request)", "leases(self)", "free(self)"],
+        "Signer": ["__init__(self, disk, number, sign, block)", "wanted(self)", "take(self, lease)",
+                   "sign(self, message)", "left(self)", "held(self)"],
+    },
+    "logbook": {
+        "Logbook": ["__init__(self, suite)", "append(self, entry)", "entry(self, index)", "entries(self)",
+                    "length(self)", "head(self, count=None)", "inclusion(self, index, count=None)",
+                    "consistency(self, first, count=None)"],
+    },
+    "heads": {"Watcher": ["__init__(self, suite)", "take(self, head, path)", "head(self)"]},
+    "house": {
+        "House": ["__init__(self, tower, identifier, seed, size, block)", "deed(self, deed)", "public(self)",
+                  "book(self)", "log(self)"],
     },
 }
 
