@@ -166,8 +166,9 @@ def carry_back(suite, first, second, consistency, index, entry, path):
 
 def two_faces(suite, heads, consistencies, index, one, other):
     """Return None if the paths under the first and the last head have the same entry, otherwise a clash."""
-    if not heads or len(consistencies) != len(heads) - 1:
-        raise Refused("there is not one consistency path between each two heads")
+    # Without a head there are too many paths, too.
+    if len(consistencies) != len(heads) - 1:
+        raise Refused("there is not one consistency path from each head to the next one")
     inclusion_lists(suite, heads[0], index, one[0], one[1])
     inclusion_lists(suite, heads[-1], index, other[0], other[1])
     for first, second, path in zip(heads, heads[1:], consistencies):

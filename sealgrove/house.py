@@ -30,11 +30,11 @@ class House:
         """Do a deed and return its outcome."""
         if deed[0] == "offer":
             _, index, data, changes = deed
-            return self._offer(index, list(data), changes)
+            return self._offer_deed(index, list(data), changes)
         if deed[0] == "head":
-            return self._head(deed[1])
+            return self._head_deed(deed[1])
         try:
-            return self._keep(deed)
+            return self._keeper_deed(deed)
         except PowerLost:
             return ("power",)
         except UsedUp:
@@ -42,11 +42,11 @@ class House:
         except Refused:
             return ("stale",)
 
-    def _keep(self, deed):
+    def _keeper_deed(self, deed):
         if deed[0] == "sign":
-            return self._sign(list(deed[1]))
+            return self._sign_deed(list(deed[1]))
         if deed[0] == "skip":
-            return self._skip(deed[1])
+            return self._skip_deed(deed[1])
         if deed[0] == "fail":
             self._disk.fail_after(deed[1])
             return "set", deed[1]
@@ -56,7 +56,7 @@ class House:
         self._keeper = self._new_keeper()
         return "opened", self._keeper.next_place()
 
-    def _sign(self, message):
+    def _sign_deed(self, message):
         text = entry_of(message, [])
         place, signature = self._keeper.sign(message)
         # A signature of a great tower may be longer than what others may put into a log.
@@ -64,14 +64,14 @@ class House:
         self._book.append((message, signature))
         return "signed", place
 
-    def _skip(self, count):
+    def _skip_deed(self, count):
         try:
             self._keeper.skip(count)
         except OutOfRange:
             return ("used",)
         return "skipped", count
 
-    def _offer(self, index, message, changes):
+    def _offer_deed(self, index, message, changes):
         if not 0 <= index < len(self._book):
             return ("nothing",)
         signature = list(self._book[index][1])
@@ -84,7 +84,7 @@ class House:
             return "known", self._book.index((message, signature))
         return "accused", accuse_tower(self.public(), self._book, message, signature)[0]
 
-    def _head(self, count):
+    def _head_deed(self, count):
         if not 0 <= count <= self._log.length():
             return ("nothing",)
         return "head", count, tuple(self._log.head(count)[1])

@@ -86,12 +86,12 @@ class Office:
         if self._free == self._places:
             raise UsedUp("there is no free place")
         lease = signer, request, self._free, min(self._free + self._span, self._places)
-        self._record(lease)
+        self._keep_lease(lease)
         self._last[signer] = lease
         self._free = lease[3]
         return lease
 
-    def _record(self, lease):
+    def _keep_lease(self, lease):
         others = [other for other in self.leases() if other[0] != lease[0]]
         leases = sorted(others + [lease], key=lambda held: held[2])
         records = [lease_record(held[0], held) for held in leases]

@@ -37,8 +37,8 @@ def read_data(word, most):
 
 def read_change(word):
     """Return the index and the value of a change."""
-    number, sign, data = word.partition("=")
-    need_good(sign == "=" and len(data) == 2)
+    number, _, data = word.partition("=")
+    need_good(len(data) == 2)
     return read_number(number), read_data(data, 1)[0]
 
 

@@ -148,6 +148,16 @@ class Form(unittest.TestCase):
             for node in nodes(tree, ast.ExceptHandler):
                 self.assertRegex(ast.unparse(node.type), r"^(Malformed|OutOfRange|Refused|UsedUp|PowerLost|KeyError)$")
 
+    def test_barred_names(self):
+        """Names that the rule for plain names keeps for others."""
+        begin = r"_(wall|pe_|dcw_|enum_|cm_|twin_re_|lay_|law_|stub_|sre)"
+        whole = r"_(cold|tuplegetter|outside|record|written_out|member_names)[0-9_]*"
+        for name, tree in trees().items():
+            words = {node.id for node in nodes(tree, ast.Name)} | {node.attr for node in nodes(tree, ast.Attribute)}
+            words |= {node.name for node in nodes(tree, ast.FunctionDef, ast.ClassDef)} | set(local_names(tree))
+            for word in words:
+                self.assertIsNone(re.match(begin, word) or re.fullmatch(whole, word), (name, word))
+
     def test_words(self):
         for name in files():
             code = re.sub(r'"""[^"]*"""|#.*', "", text_of(name))

@@ -355,7 +355,8 @@ class Errors(Granting):
                         self.raises(Malformed, *call)
 
     def test_long_messages(self):
-        for chain in ([], plain_chain(1)):
+        # The length comes before every fault.
+        for chain in ([], plain_chain(1), [(warrant_for(1), [])], plain_chain(1, scope=(1,)), plain_chain(1, first=20)):
             for call in self.calls(chain, [], [0] * 65536)[:4] + self.calls(chain, [], [0] * 70000)[:4]:
                 self.raises(OutOfRange, *call)
         message = [7] * 65535

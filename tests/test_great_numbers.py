@@ -3,10 +3,10 @@ so that no text of an error may be made of a number that has no bound."""
 
 from helpers import Case, never
 from sealgrove import (
-    address, batch, chains, coefficients, errors, forest, hashes, hyper, joint, kept, keptkeys, layers, lms, lmsforms,
-    octets, onetime, plus, schemes, suites, tower, tree,
+    address, batch, chains, coefficients, disk, errors, forest, hashes, heads, house, hyper, joint, keeper, kept,
+    keptkeys, layers, leases, lms, lmsforms, logbook, octets, onetime, plus, schemes, suites, tower, tree, warrants,
 )
-from sealgrove.errors import Malformed, OutOfRange
+from sealgrove.errors import Malformed, NotThere, OutOfRange, Refused
 
 GREAT = 10 ** 5000
 I = [7] * 16
@@ -19,6 +19,11 @@ PATH = kept.KeptPath(SUITE, 1, lambda q: [q], lambda z, i, left, right: left + r
 KEY = keptkeys.KeptKey(KIND, I, [1])
 TOWER = tower.Tower([KIND, KIND])
 HIGH = [7] * 7 + [0] * 9
+DISK = disk.Disk(64)
+KEEPER = keeper.Keeper(disk.Disk(64), never, 9, 1)
+OFFICE = leases.Office(disk.Disk(1024), 9, 1)
+SIGNER = leases.Signer(disk.Disk(512), 1, never, 1)
+LOG = logbook.Logbook(SUITE)
 
 
 def calls(n):
@@ -60,6 +65,10 @@ def calls(n):
         (hyper.hyper_sign, SCHEME, [1], [1], (n, 0), [1]), (hyper.hyper_sign, SCHEME, [1], [1], (0, n), [1]),
         (TOWER.places, n), (TOWER.number_of, [0, n]), (tower.level_key, TOWER, HIGH, [1], [n]),
         (tower.sign_tower, TOWER, HIGH, [1], n, []), (tower.TowerSigner(TOWER, HIGH, [1]).skip, n),
+        (disk.Disk, n), (DISK.read, n, 0), (DISK.read, 0, n), (DISK.write, n, []), (DISK.versions, n),
+        (keeper.Keeper, DISK, never, n, 1), (KEEPER.skip, n), (leases.Office, disk.Disk(1024), n, 1), (OFFICE.ask, n, 1),
+        (leases.Signer, disk.Disk(512), n, never, 1), (SIGNER.take, (1, 1, n, n)), (SIGNER.take, (1, 1, n, 5)),
+        (logbook.head_text, (n, [1])), (house.House, TOWER, HIGH, [1], n, 1),
     ]
 
 
@@ -79,6 +88,17 @@ class GreatNumbers(Case):
     def test_the_start_of_a_signer(self):
         for number in (GREAT, -GREAT):
             self.raises(OutOfRange, tower.TowerSigner, TOWER, HIGH, [1], start=number)
+
+    def test_what_is_not_there_or_refused(self):
+        for number in (GREAT, -GREAT):
+            for call in (LOG.entry, LOG.head, LOG.inclusion, LOG.consistency):
+                self.raises(NotThere, call, number)
+            self.raises(Refused, OFFICE.ask, 1, number)
+            self.raises(Refused, heads.inclusion_lists, SUITE, (number, [1]), number, [], [])
+            self.raises(Refused, heads.consistency_lists, SUITE, (0, [1]), (number, [1]), [])
+            self.raises(Malformed, warrants.write_withdrawal, (((), 0, 0, 0, 0, 0, ()), number))
+            self.assertIs(warrants.is_warrant(((), 0, number, 0, number, 0, ())), False)
+            self.assertIs(SIGNER.take((1, number, 0, 1)), False)
 
     def test_items_of_a_list(self):
         self.assertIs(octets.is_bytes([GREAT]), False)

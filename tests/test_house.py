@@ -277,6 +277,9 @@ class Deeds(Case):
             ("offer", 0, (1,), ((size - 1, (house.book()[0][1][-1] + 1) % 256),)), ("offer", 0, (1,), ((0, 5), (0, 0)))]), [
             ("nothing",), ("nothing",), ("known", 0), ("known", 1), ("known", 2), ("known", 0), ("wrong",), ("wrong",),
             ("known", 0)])
+        # No index is counted from the end.
+        self.assertEqual(run(house, [("offer", -1, (2,), ()), ("offer", 0, (1,), ((-1, 7), (-size, 7)))]), [
+            ("nothing",), ("known", 0)])
         self.assertEqual(len(house.book()), 3)
 
     def test_the_signature_of_another_pair(self):
@@ -310,7 +313,7 @@ class Deeds(Case):
         for count in range(4):
             digest = tuple(reference_log.log_digest("small-2", log[:count]))
             self.assertEqual(house.deed(("head", count)), ("head", count, digest))
-        for count in (4, 1000000):
+        for count in (4, 1000000, -1):
             self.assertEqual(house.deed(("head", count)), ("nothing",))
 
     def test_an_opening_that_fails_leaves_the_keeper(self):

@@ -205,7 +205,10 @@ class Keys(Case):
                          [3, 0, 1, 0, 1, way.head[5]]):
                 self.assertIs(judge_batch(way.suite, head, [], paper), False)
         # Another number of messages is the head of another batch, of which the root is known.
-        self.assertIs(judge_batch(way.suite, [3, 0, 1, 0, 0] + way.root, [], clash), True)
+        for count in ([0, 1, 0, 0], [0, 0, 0, 1]):
+            self.assertIs(judge_batch(way.suite, [3] + count + way.root, [], clash), True)
+        for count in ([0, 1, 0, 1], [1, 0, 0, 1], [0, 0, 0, 0], [255] * 4):
+            self.assertIs(judge_batch(way.suite, [3] + count + way.root, [], clash), False)
 
     def test_the_root_is_known_without_a_book(self):
         source = random.Random(8)

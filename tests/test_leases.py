@@ -165,6 +165,19 @@ class Offices(Case):
         self.assertEqual((office.leases(), office.free()), ([(1, 1, 0, 5), (15, 2 ** 32 - 1, 3, 10)], 10))
         self.assertEqual(office.ask(15, 2 ** 32 - 1), (15, 2 ** 32 - 1, 3, 10))
 
+    def test_great_places(self):
+        for first, past in ((LAST - 3, LAST), (2 ** 56, 2 ** 56 + 5), (2 ** 63 + 1, LAST - 1)):
+            office = Office(disk_with(1024, [known.lease_record(7, (7, 2 ** 24 + 1, first, past))]), LAST, 2)
+            self.assertEqual((office.leases(), office.free()), ([(7, 2 ** 24 + 1, first, past)], past))
+            disk = Disk(512)
+            signer = Signer(disk, 7, echo, 2)
+            signer.take((7, 1, first, past))
+            self.assertEqual(signer.sign([])[0], first)
+            again = Signer(disk, 7, echo, 2)
+            self.assertEqual((again.held(), again.left()), ([(7, 1, first, past)], past - first - 2))
+            if again.left() > 0:
+                self.assertEqual(again.sign([])[0], first + 2)
+
     def test_the_last_record_of_a_signer_counts(self):
         records = [known.lease_record(1, (1, 5, 3, 9)), known.lease_record(1, (1, 2, 0, 3))]
         office = Office(disk_with(1024, records), 10, 4)
